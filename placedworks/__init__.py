@@ -1,0 +1,1 @@
+"""Placedworks: works kept running on machines that fall."""
