@@ -106,14 +106,21 @@ def runs_of(berths, asked):
     return [(wish, run) for wish, kind, run in running(rooms_of(berths), asked)]
 
 
+def shortages_of(rooms, asked, ran):
+    """For each wish asked None where it runs in all its copies, else why not one more of it runs."""
+    demands = {}
+    shortages = []
+    for (wish, kind, copies), (same, alike, run) in zip(asked, ran):
+        demands = with_more(demands, kind, run)
+        shortages.append(None if run == copies else lacking(rooms, with_more(demands, kind, 1)))
+    return shortages
+
+
 def shortage(berths, asked, at):
     """None where the wish at a place runs in all its copies, else why not one more of it runs."""
     refuse_wrong(berths, asked)
     rooms = rooms_of(berths)
-    ran = running(rooms, asked[:at + 1])
-    if ran[at] == asked[at]:
-        return None
-    return lacking(rooms, with_more(demands_of(ran), asked[at][1], 1))
+    return shortages_of(rooms, asked, running(rooms, asked))[at]
 
 
 def laying(berths, asked):

@@ -223,6 +223,15 @@ class TestThings(RoadCase):
             self.assertEqual(thing, same)
             self.assertEqual(self.road.come(3), [("ma", same)])
 
+    def test_a_doubled_one_changed_behind_the_putting(self):
+        self.road.twice("ma", True)
+        for thing in copy.deepcopy(THINGS):
+            same = copy.deepcopy(thing)
+            self.road.put("ma", thing, 1)
+            spoil(thing)
+            self.assertEqual(self.road.come(2), [("ma", same)])
+            self.assertEqual(self.road.come(3), [("ma", same)])
+
     def test_both_of_a_doubled_one_at_once(self):
         self.road.twice("ma", True)
         self.road.put("ma", [[1]], 1)
