@@ -1,9 +1,9 @@
 """The log of a book as a text, and the book of such a text."""
 
 from placedworks.book import Book
-from placedworks.errors import NoRow, NoText, PlaceError
+from placedworks.errors import NoText
 from placedworks.kinds import is_word
-from placedworks.texts import cut_rows, read_deed, show_deed
+from placedworks.texts import read_deed, read_rows, show_deed
 
 
 def show_log(book):
@@ -14,14 +14,7 @@ def show_log(book):
 def book_of(machines, text):
     """The book of the machines' names and a log's text."""
     book = Book(machines)
-    rows, rest = cut_rows(text)
-    for at, row in enumerate(rows):
-        try:
-            do_row(book, row)
-        except PlaceError:
-            raise NoRow(at) from None
-    if rest != "":
-        raise NoRow(len(rows))
+    read_rows(text, lambda row: do_row(book, row))
     return book
 
 

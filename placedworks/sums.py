@@ -14,18 +14,18 @@ def refuse_wrong(berths, asked):
     refuse_asked(asked)
 
 
-def refuse_berths(berths):
-    """Refuse what is no list of at most eight machines, sorted, with their berths."""
+def refuse_berths(berths, least=0):
+    """Refuse what is no list of at most eight machines, sorted, with so many berths each at least."""
     if not isinstance(berths, list):
         raise BadBerths(0)
     for at, row in enumerate(berths):
-        if at >= MOST_ROWS or not is_machine_row(row) or at > 0 and row[0] <= berths[at - 1][0]:
+        if at >= MOST_ROWS or not is_machine_row(row, least) or at > 0 and row[0] <= berths[at - 1][0]:
             raise BadBerths(at)
 
 
-def is_machine_row(row):
-    """Whether a thing is a tuple (machine, berths)."""
-    return isinstance(row, tuple) and len(row) == 2 and is_word(row[0]) and is_within(row[1], 0, MOST_BERTHS)
+def is_machine_row(row, least):
+    """Whether a thing is a tuple (machine, berths), with so many berths at least."""
+    return isinstance(row, tuple) and len(row) == 2 and is_word(row[0]) and is_within(row[1], least, MOST_BERTHS)
 
 
 def refuse_asked(asked):

@@ -1,15 +1,20 @@
 """Deeds as texts, and texts as deeds."""
 
 from placedworks.deeds import BOUNDS, PARTS, is_deed
-from placedworks.errors import NoRow, NoText
+from placedworks.errors import NoRow, NoText, PlaceError
 
 FIGURES = "0123456789"
 MOST_FIGURES = 10
 
 
 def show_deed(deed):
-    """A deed's text: its parts with one blank between each two."""
-    return " ".join([str(part) for part in deed])
+    """A deed's text."""
+    return show_parts(deed)
+
+
+def show_parts(parts):
+    """Words and numbers with one blank between each two."""
+    return " ".join([str(part) for part in parts])
 
 
 def show_deeds(deeds):
@@ -48,23 +53,23 @@ def read_number(text):
     return int(text)
 
 
-def cut_rows(text):
-    """The rows of a text, and what stands behind its last line feed; NoRow(0) of no text."""
+def read_rows(text, read):
+    """What each row of a text is read to; NoRow at the first that is refused, or behind the last line feed."""
     if not isinstance(text, str):
         raise NoRow(0)
     rows = text.split("\n")
-    return rows[:-1], rows[-1]
+    rest = rows.pop()
+    things = []
+    for at, row in enumerate(rows):
+        try:
+            things.append(read(row))
+        except PlaceError:
+            raise NoRow(at) from None
+    if rest != "":
+        raise NoRow(len(rows))
+    return things
 
 
 def read_deeds(text):
     """The list of deeds of a text; NoRow at the first row that is none."""
-    rows, rest = cut_rows(text)
-    deeds = []
-    for at, row in enumerate(rows):
-        try:
-            deeds.append(read_deed(row))
-        except NoText:
-            raise NoRow(at) from None
-    if rest != "":
-        raise NoRow(len(rows))
-    return deeds
+    return read_rows(text, read_deed)
