@@ -2,11 +2,14 @@
 
 import random
 
+from placedworks.house import House
+
 NAMES = ["ma", "mb", "mc", "md", "me"]
 WISHES = ["a", "b", "c", "d"]
 STORES = ["s", "t"]
 DOORS = ["p", "q", "r"]
 GROUPS = ["day", "night", "noon"]
+CALM = [0.0, 0.3, 0.6, 0.85]
 LETTERS = ["", "x", "two words", " blanks ", "twelve signs"]
 
 
@@ -101,3 +104,17 @@ class ChanceHouse:
         rows = [row for row in rows if row[0] != "deed" or self.chance.random() < 0.7]
         self.chance.shuffle(rows)
         return rows + [("ask", door, group, 40) for door in DOORS for group in GROUPS] + [("up",)]
+
+
+def numbers_planned(house):
+    return [row[0] for row in house.keeper().planned()]
+
+
+def played(seeds, turns, machines=5):
+    """Houses by chance, and the happenings of each turn, which are still to be played."""
+    for seed in seeds:
+        case = ChanceHouse(seed, CALM[seed % len(CALM)], machines)
+        house = House(list(case.machines))
+        for at in range(turns):
+            rows = case.first_rows() if at == 0 else case.rows(numbers_planned(house))
+            yield (seed, at), case, house, rows

@@ -3,27 +3,16 @@
 import random
 import unittest
 
-from house_by_chance import ChanceHouse
+from house_by_chance import CALM, ChanceHouse, numbers_planned, played
 from house_by_words import HouseByWords, told_by_house
+from placedworks.chronicle import show_chronicle
+from placedworks.drills import drill
+from placedworks.errors import BadRow, PlaceError
 from placedworks.house import House, heal
+from placedworks.journal import show_journal
 from placedworks.kinds import LEASE
+from placedworks.pages import show_page
 from placedworks.sums import runs_of
-
-CALM = [0.0, 0.3, 0.6, 0.85]
-
-
-def numbers_planned(house):
-    return [row[0] for row in house.keeper().planned()]
-
-
-def played(seeds, turns, machines=5):
-    """Houses by chance, and the happenings of each turn, which are still to be played."""
-    for seed in seeds:
-        case = ChanceHouse(seed, CALM[seed % len(CALM)], machines)
-        house = House(list(case.machines))
-        for at in range(turns):
-            rows = case.first_rows() if at == 0 else case.rows(numbers_planned(house))
-            yield (seed, at), case, house, rows
 
 
 def writers(house, case, store):
@@ -143,6 +132,49 @@ class TestTheWhole(unittest.TestCase):
             found = other.play([("again",)] + woven)
             self.assertEqual([answer for row, answer in zip([("again",)] + woven, found) if row != ("again",)], answers)
             self.assertEqual(told_by_house(other), told_by_house(house), place)
+
+
+    def test_questions_and_refusals_change_nothing(self):
+        for place, case, house, rows in played(range(40), 25):
+            if place[1] == 0:
+                other = House(list(case.machines))
+            self.assertEqual(other.play(rows), house.play(rows), place)
+            told_by_house(house)
+            show_page(house)
+            show_chronicle(house)
+            show_journal(house.keeper())
+            if place[1] % 8 == 7:
+                drill(house, [case.rows([1, 2]), []])
+            for deeds in ([case.deed() for _ in range(3)], [("empty", case.name())]):
+                try:
+                    house.keeper().would(deeds)
+                except PlaceError:
+                    pass
+            with self.assertRaises(BadRow):
+                house.play([("fall", name) for name, _ in case.machines] + [("down",), ("again",), ("rise", "zz")])
+            self.assertEqual(told_by_house(house), told_by_house(other), place)
+            self.assertEqual(house.played(), other.played(), place)
+
+    def test_what_is_known_to_answer_answers_in_truth_where_nothing_failed(self):
+        checked = 0
+        for place, case, house, rows in played(range(80), 50):
+            rows = [row for row in rows if row[0] not in ("fall", "cut", "fail", "down")]
+            house.play(rows)
+            keeper = house.keeper()
+            for wish, run in keeper.runs():
+                gate = max(0, min(keeper.book().wish(wish)["keep"], run - 1))
+                posts = keeper.posts_of(wish)
+                known = [post for post in posts if self.answers(post, keeper, lambda name, number: (
+                    (number, True) in keeper.kept(name)[4]))]
+                truly = [post for post in posts if self.answers(post, keeper, lambda name, number: (
+                    house.machine(name).answers(number)))]
+                self.assertEqual([post for post in known if post not in truly], [], place)
+                checked += gate > 0 and len(known) >= gate
+        self.assertGreater(checked, 300)
+
+    def answers(self, post, keeper, asked):
+        machines = {row[0]: row[6] for row in keeper.planned()}
+        return any([asked(machines[number], number) for number in post if number is not None])
 
 
 class TestRules(unittest.TestCase):
