@@ -16,22 +16,22 @@ def heal(posts, machines):
     return 3 + 9 * (2 * posts * machines + 2 * posts + 2)
 
 
-def rise(house, row):
+def let_rise(house, row):
     """Let a machine rise."""
     return house.machine(row[1]).rise()
 
 
-def fall(house, row):
+def let_fall(house, row):
     """Let a machine fall."""
     return house.machine(row[1]).fall()
 
 
-def cut(house, row):
+def cut_machine(house, row):
     """Cut a machine off."""
     house.road.cut(row[1])
 
 
-def join(house, row):
+def join_machine(house, row):
     """Join a machine again."""
     house.road.join(row[1])
 
@@ -46,12 +46,12 @@ def make_twice(house, row):
     house.road.twice(row[1], row[2])
 
 
-def fail(house, row):
+def let_fail(house, row):
     """Let a copy that answers fail, wherever it lies."""
     return any([machine.fail(row[1]) for machine in house.by_name.values()])
 
 
-def ask(house, row):
+def bring_asks(house, row):
     """Bring asks of a group to a door."""
     name, group, many = row[1:]
     if name not in house.door_of:
@@ -63,7 +63,7 @@ def ask(house, row):
         return None
 
 
-def write(house, row):
+def put_write(house, row):
     """Write to a store, by the copy that may."""
     store, letters = row[1:]
     turn = house.turn()
@@ -100,15 +100,15 @@ def make_again(house, row):
 
 
 DOINGS = {
-    "rise": rise,
-    "fall": fall,
-    "cut": cut,
-    "join": join,
+    "rise": let_rise,
+    "fall": let_fall,
+    "cut": cut_machine,
+    "join": join_machine,
     "late": make_late,
     "twice": make_twice,
-    "fail": fail,
-    "ask": ask,
-    "write": write,
+    "fail": let_fail,
+    "ask": bring_asks,
+    "write": put_write,
     "deed": tell_deed,
     "down": take_down,
     "up": bring_up,
